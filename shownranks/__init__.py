@@ -1,0 +1,1 @@
+"""A house of texts, asked by words, each rank shown."""
