@@ -19,6 +19,11 @@ def is_figure(sign):
     return "0" <= sign <= "9"
 
 
+def is_plain_sign(sign):
+    """Whether plain words may have this sign."""
+    return is_small_letter(sign) or is_figure(sign)
+
+
 def is_sign(sign):
     """Whether texts may have this sign."""
     return " " <= sign <= "~" and ord(sign) != PERCENT
@@ -31,7 +36,7 @@ def are_small_letters(text, least, most):
 
 def is_plain_word(text):
     """Whether a text is made of one to twenty small letters and figures."""
-    return 1 <= len(text) <= 20 and all([is_small_letter(sign) or is_figure(sign) for sign in text])
+    return 1 <= len(text) <= 20 and all([is_plain_sign(sign) for sign in text])
 
 
 def is_name(thing):

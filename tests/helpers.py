@@ -1,6 +1,10 @@
 """What several test files need."""
 
+import random
 import unittest
+
+from shownranks.askings import All, Also, Any, Begin, But, By, In, Near, Never, Row, Word
+from shownranks.houses import House
 
 # Things of all kinds, and texts, that are no names.
 NO_NAMES = [
@@ -67,3 +71,88 @@ def spoil_told_lists(book):
     for told in (book.names(), book.words(), book.begun("")):
         told.reverse()
         told.append("more")
+
+
+def chance_leaf(chance, words):
+    """A leaf or a Never, of words out of a list."""
+    one, other = chance.choice(words), chance.choice(words)
+    return chance.choice([
+        Word(one), Word(one), Begin(one[:chance.randrange(1, len(one) + 1)]), Near(chance.randrange(1, 21), one, other),
+        Near(chance.randrange(1, 4), one, one), Row([chance.choice(words) for _ in range(chance.randrange(2, 7))]),
+        Row([one, other]), Never(),
+    ])
+
+
+def chance_asking(chance, words, nodes, deep):
+    """An asking of any sorts, of so many nodes at most, at most so many within one another."""
+    sort = chance.choice(["leaf", "in", "by", "but", "also", "all", "any", "all", "any"])
+    if nodes < 3 or deep == 0 or sort == "leaf":
+        return chance_leaf(chance, words)
+    if sort in ("in", "by"):
+        inner = chance_asking(chance, words, nodes - 1, deep - 1)
+        return In(chance.randrange(3), inner) if sort == "in" else By(chance.choice([0, 1, 2, 999]), inner)
+    if sort in ("but", "also"):
+        one, other = [chance_asking(chance, words, (nodes - 1) // 2, deep - 1) for _ in range(2)]
+        return But(one, other) if sort == "but" else Also(one, other)
+    many = chance.randrange(1, min(5, nodes - 1) + 1)
+    some = [chance_asking(chance, words, (nodes - 1) // many, deep - 1) for _ in range(many)]
+    return All(some) if sort == "all" else Any(some)
+
+
+def many_askings(words, many):
+    """Askings of all sizes up to 40 nodes and up to ten within one another, the same ones each time."""
+    chance = random.Random(len(words))
+    return [chance_asking(chance, words, 1 + number % 40, 10) for number in range(many)]
+
+
+def each_sort_ten_deep():
+    """Askings of ten within one another, of one sort throughout, and of all sorts in turn."""
+    wraps = [
+        lambda inner: In(1, inner), lambda inner: By(7, inner), lambda inner: All([inner, Word("x")]),
+        lambda inner: Any([Word("y"), inner]), lambda inner: But(inner, Word("z")), lambda inner: Also(inner, Never()),
+        lambda inner: But(Word("z"), inner), lambda inner: Also(Word("z"), inner), lambda inner: All([inner]),
+        lambda inner: Any([inner]),
+    ]
+    made = []
+    for rows in [[wrap] * 10 for wrap in wraps] + [wraps, wraps[::-1]]:
+        asking = Word("a")
+        for wrap in rows:
+            asking = wrap(asking)
+        made.append(asking)
+    return made
+
+
+def slow_count(words, told):
+    """[16], as slowly and plainly as may be: the count of a leaf, told so, in a part of these words."""
+    at = {place: word for word, place, _, _ in words}
+    if told[0] == "word":
+        return sum(word == told[1] for word in at.values())
+    if told[0] == "begin":
+        return sum(word.startswith(told[1]) for word in at.values())
+    if told[0] == "row":
+        return sum(all(at.get(place + step) == word for step, word in enumerate(told[1])) for place in range(401))
+    _, far, one, other = told
+    pairs = {
+        frozenset((here, there)) for here in at for there in at
+        if here != there and abs(here - there) <= far and at[here] == one and at[there] == other
+    }
+    return len(pairs)
+
+
+def make_of(rules, texts):
+    """A make with these texts, to which its house came by some detours."""
+    house = House(rules)
+    for number, name in enumerate(texts):
+        house.put(name, ("a b other", "text", ""))
+        if number % 3 == 0:
+            house.take(name)
+        house.put(name, texts[name])
+    house.put("zzz", ("a a a a", "b sea red", "sea"))
+    return house.make(house.take("zzz"))
+
+
+# What is none of a book's names, whatever names of small letters it has beside "zz" and "nobody".
+NONE_OF_THE_NAMES = NO_NAMES + [
+    "zz", "nobody", ("sea",), ["sea"], {"sea": 1}, {"sea": ("a", "b", "c")}, b"sea", "SEA", "sea ", " sea", [], {}, 7,
+    ("sea", 0), [("sea",)], (None,), ((),), -(10 ** 30),
+]
