@@ -1,5 +1,6 @@
 """What several test files need."""
 
+import fractions
 import random
 import unittest
 
@@ -137,6 +138,93 @@ def slow_count(words, told):
         if here != there and abs(here - there) <= far and at[here] == one and at[there] == other
     }
     return len(pairs)
+
+
+class Slow:
+    """[16] to [20] of a book and a weighing, as slowly and plainly as may be, over what askings tell of themselves."""
+
+    def __init__(self, book, weights=(3, 1, 2), rise=(6, 5), long=(3, 4)):
+        self.names = book.names()
+        self.words = {(name, part): book.words_in(name, part) for name in self.names for part in (0, 1, 2)}
+        self.lengths = {name: book.length(name) for name in self.names}
+        self.weights = weights
+        self.rise = fractions.Fraction(*rise)
+        self.long = fractions.Fraction(*long)
+        self.counted = {}
+
+    def counts(self, name, leaf, parts):
+        """Its counts in the three parts, 0 where it is not looked for."""
+        if (name, leaf) not in self.counted:
+            self.counted[name, leaf] = [slow_count(self.words[name, part], leaf) for part in (0, 1, 2)]
+        return tuple(count if part in parts else 0 for part, count in enumerate(self.counted[name, leaf]))
+
+    def within(self, told, parts):
+        """The askings that one is made of, each with the parts in which it is looked for."""
+        some = told[1] if told[0] in ("all", "any") else [part for part in told[1:] if isinstance(part, tuple)]
+        return [(one, [part for part in parts if told[0] != "in" or part == told[1]]) for one in some]
+
+    def answers(self, name, told, parts=(0, 1, 2)):
+        if told[0] in ("word", "begin", "row", "near"):
+            return any(count > 0 for count in self.counts(name, told, parts))
+        each = [self.answers(name, one, further) for one, further in self.within(told, parts)]
+        return {
+            "in": lambda: each[0], "by": lambda: each[0], "all": lambda: all(each), "any": lambda: any(each),
+            "but": lambda: each[0] and not each[1], "also": lambda: each[0], "never": lambda: False,
+        }[told[0]]()
+
+    def leaf_rank(self, n, t, length, many, total):
+        if t == 0:
+            return fractions.Fraction(0)
+        below = t + self.rise * (1 - self.long + self.long * length * many / total)
+        return fractions.Fraction(many + 1, n + 1) * (t * (self.rise + 1)) / below
+
+    def rank(self, name, told, parts=(0, 1, 2)):
+        """The rank as Python's own fraction; None where the text does not answer."""
+        if not self.answers(name, told, parts):
+            return None
+        if told[0] in ("word", "begin", "row", "near"):
+            n, _, t, length = self.numbers(name, told, parts)
+            return self.leaf_rank(n, t, length, len(self.names), sum(self.lengths.values()))
+        ranks = [self.rank(name, one, further) for one, further in self.within(told, parts)]
+        if told[0] == "by":
+            return told[1] * ranks[0]
+        return ranks[0] if told[0] == "but" else sum(rank for rank in ranks if rank is not None)
+
+    def numbers(self, name, leaf, parts):
+        n = sum(self.answers(other, leaf, parts) for other in self.names)
+        counts = self.counts(name, leaf, parts)
+        return (n, counts, sum(weight * count for weight, count in zip(self.weights, counts)), self.lengths[name])
+
+    def paper(self, name, told, parts=(0, 1, 2)):
+        leaf = told[0] in ("word", "begin", "row", "near")
+        within = [] if leaf else self.within(told, parts)
+        numbers = self.numbers(name, told, parts) if leaf else ()
+        return (
+            as_pair(self.rank(name, told, parts)), numbers, tuple(self.paper(name, one, further) for one, further in within),
+        )
+
+    def listed(self, told):
+        ranks = [(name, self.rank(name, told)) for name in self.names if self.answers(name, told)]
+        return [(name, as_pair(rank)) for name, rank in sorted(ranks, key=lambda row: (-row[1], row[0]))]
+
+
+def as_pair(rank):
+    """Python's own fraction as a tuple (top, bottom), None as it is."""
+    return None if rank is None else (rank.numerator, rank.denominator)
+
+
+def chance_texts(chance, many):
+    """Texts of few words, so that leaves stand often, with silent words and other signs between."""
+    words = ["a", "b", "ab", "the", "as", "walking", "b", "a"]
+    names = [one + other for one in "pqrs" for other in "abcdefghij"]
+    chance.shuffle(names)
+    texts = {}
+    for name in names[:many]:
+        texts[name] = tuple(
+            "".join(chance.choice(words) + chance.choice([" ", "; ", " - "]) for _ in range(chance.choice([0, 1, 5, 20])))
+            for _ in range(3)
+        )
+    return texts
 
 
 def make_of(rules, texts):

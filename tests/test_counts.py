@@ -5,29 +5,16 @@ import unittest
 
 from shownranks.askings import Begin, Near, Row, Word
 from shownranks.books import Book
-from shownranks.counts import count_of, many_with
+from shownranks.counts import count_of, many_with, near_pairs, row_starts
 from shownranks.errors import Lacking
 from shownranks.houses import House
 from shownranks.rulebooks import Rulebook
-from helpers import NONE_OF_THE_NAMES, Checks, all_told, make_of, slow_count, spoil_told_lists
+from helpers import NONE_OF_THE_NAMES, Checks, all_told, chance_texts, make_of, slow_count, spoil_told_lists
 
 RULES = Rulebook([("ing", "", 3), ("s", "", 2), ("ies", "y", 2)], ["the", "of"])
 ALL_SORTS = [Word("sea"), Begin("se"), Row(["red", "sea"]), Near(3, "red", "sea"), Word("nowhere"), Near(2, "sea", "sea")]
 # Each choice of parts, told as tuples.
 SOME_PARTS = [(), (0,), (1,), (2,), (0, 1), (0, 2), (1, 2), (0, 1, 2)]
-
-
-def chance_texts(chance, many):
-    """Texts of few words, so that leaves stand often, with silent words and other signs between."""
-    words = ["a", "b", "ab", "the", "as", "walking", "b", "a"]
-    names = [one + other for one in "pqrs" for other in "abcdefghij"]
-    texts = {}
-    for name in names[:many]:
-        texts[name] = tuple(
-            "".join(chance.choice(words) + chance.choice([" ", "; ", " - "]) for _ in range(chance.choice([0, 1, 5, 20])))
-            for _ in range(3)
-        )
-    return texts
 
 
 def chance_leaves(chance, many):
@@ -124,6 +111,13 @@ class InAPart(Checks):
             book = Book(RULES, {"t": (text, "", "")})
             for far in range(1, 21):
                 self.same(count_of(book, "t", 0, Near(far, "red", "sea")), count_of(book, "t", 0, Near(far, "sea", "red")))
+
+    def test_the_places_that_are_counted(self):
+        self.same(near_pairs(Near(2, "a", "b"), {"a": [0, 3, 9], "b": [1, 6]}), [(0, 1), (1, 3)])
+        self.same(near_pairs(Near(3, "a", "b"), {"a": [0, 3, 9], "b": [1, 6]}), [(0, 1), (3, 6), (1, 3), (6, 9)])
+        self.same(near_pairs(Near(1, "a", "a"), {"a": [0, 1, 2, 4]}), [(0, 1), (1, 2)])
+        self.same(near_pairs(Near(20, "a", "b"), {"a": [0]}), [])
+        self.same(row_starts([[0, 2, 4, 7], [1, 5, 8], [2, 6, 10]]), [0, 4])
 
     def test_parts_do_not_meet(self):
         book = Book(RULES, {"t": ("red", "sea", "red sea"), "u": ("sea", "red", "")})

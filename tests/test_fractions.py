@@ -5,7 +5,7 @@ import math
 import random
 import unittest
 
-from shownranks.fractions import fraction, is_less, product_of, sum_of
+from shownranks.fractions import fraction, is_less, product_of, sum_of, sum_of_lowest, times_lowest
 from helpers import Checks
 
 SIXTY = 10 ** 59 + 7
@@ -55,6 +55,14 @@ class SumsAndProducts(FractionCase):
             ((0, 1), (3, 4), (3, 4)), ((3, 4), (0, 1), (3, 4)), ((2, 1), (3, 1), (5, 1)), ((-1, 4), (-1, 4), (-1, 2)),
         ]:
             self.same(sum_of(one, other), wanted)
+
+    def test_sums_of_what_is_in_lowest_terms(self):
+        for one, other in itertools.product(self.some(), self.some()):
+            self.same(sum_of_lowest(one, other), sum_of(one, other))
+
+    def test_times_of_what_is_in_lowest_terms(self):
+        for one, times in itertools.product(self.some(), [0, 1, 2, 3, 6, 36, 37, 999, SIXTY]):
+            self.same(times_lowest(times, one), product_of((times, 1), one))
 
     def test_products_written_out(self):
         for one, other, wanted in [

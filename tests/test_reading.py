@@ -135,6 +135,7 @@ BRACKETS = [
     "row(" * 5000 + "a b" + ")" * 5000, "near(3 " * 5000 + "a b" + ")" * 5000, "all(in(head by(1 any(" * 2000,
     "all(in(head by(1 any(" * 2000 + "a" + "))))" * 2000, "all(a; " * 300 + "row(a b" + ")" * 301 + ")",
     "all(" + "(" * 5000 + ")", "all(a; " + "(" * 5000 + ")" * 5000 + ")", "all(" * 1000 + "a" + ")" * 999,
+    "all(" + "row(a b); " * 5000 + "all(" * 5000 + "a" + ")" * 5001,
 ]
 
 
@@ -195,6 +196,12 @@ class ThereAndBack(Checks):
         asking = All([Any([Word("a"), Row(["b", "c"]), Never()]) for _ in range(9)] + [But(Begin("d"), Near(2, "e", "f"))])
         self.same(many_nodes(asking), 40)
         self.same(read_asking(show_asking(asking)).told(), asking.told())
+
+    def test_many_brackets_one_behind_another(self):
+        for many in (39, 150):
+            text = "all(" + "; ".join(["row(a b)"] * many) + ")"
+            self.same(read_asking(text).told(), ("all", (("row", ("a", "b")),) * many))
+            self.same(show_asking(read_asking(text)), text)
 
     def test_somewhat_deeper_than_promised(self):
         text = "by(1 " * 39 + "a" + ")" * 39
