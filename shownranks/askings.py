@@ -3,6 +3,8 @@
 from shownranks.errors import NoAsking
 from shownranks.signs import is_plain_word
 
+MOST_TIMES = 999
+
 
 def check_words(words):
     """Refuse a list with what is no plain word."""
@@ -206,7 +208,7 @@ class By(Asking):
     """An asking that counts so many times."""
 
     def __init__(self, times, inner):
-        check_number(times, 0, 999)
+        check_number(times, 0, MOST_TIMES)
         self.times = times
         self.inner = inner
 

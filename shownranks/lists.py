@@ -12,14 +12,17 @@ def place_in_list(listed, rank):
     return at
 
 
-def list_of(book, weighing, asking):
-    """The list of tuples (name, rank), the greater rank first, of alike ones by name."""
-    names = book.names()
-    papers = papers_of(book, weighing, names, asking)
+def list_by_papers(papers):
+    """The list, by the dict from all names, sorted, to their papers."""
     listed = []
     # By name, so that of alike ones each comes behind those with lesser names.
-    for name in names:
+    for name in papers:
         rank = papers[name][0]
         if rank is not None:
             listed.insert(place_in_list(listed, rank), (name, rank))
     return listed
+
+
+def list_of(book, weighing, asking):
+    """The list of tuples (name, rank), the greater rank first, of alike ones by name."""
+    return list_by_papers(papers_of(book, weighing, book.names(), asking))

@@ -1,6 +1,7 @@
 """What several test files need."""
 
 import fractions
+import itertools
 import random
 import unittest
 
@@ -140,6 +141,9 @@ def slow_count(words, told):
     return len(pairs)
 
 
+LEAVES = ("word", "begin", "row", "near")
+
+
 class Slow:
     """[16] to [20] of a book and a weighing, as slowly and plainly as may be, over what askings tell of themselves."""
 
@@ -164,7 +168,7 @@ class Slow:
         return [(one, [part for part in parts if told[0] != "in" or part == told[1]]) for one in some]
 
     def answers(self, name, told, parts=(0, 1, 2)):
-        if told[0] in ("word", "begin", "row", "near"):
+        if told[0] in LEAVES:
             return any(count > 0 for count in self.counts(name, told, parts))
         each = [self.answers(name, one, further) for one, further in self.within(told, parts)]
         return {
@@ -182,7 +186,7 @@ class Slow:
         """The rank as Python's own fraction; None where the text does not answer."""
         if not self.answers(name, told, parts):
             return None
-        if told[0] in ("word", "begin", "row", "near"):
+        if told[0] in LEAVES:
             n, _, t, length = self.numbers(name, told, parts)
             return self.leaf_rank(n, t, length, len(self.names), sum(self.lengths.values()))
         ranks = [self.rank(name, one, further) for one, further in self.within(told, parts)]
@@ -196,7 +200,7 @@ class Slow:
         return (n, counts, sum(weight * count for weight, count in zip(self.weights, counts)), self.lengths[name])
 
     def paper(self, name, told, parts=(0, 1, 2)):
-        leaf = told[0] in ("word", "begin", "row", "near")
+        leaf = told[0] in LEAVES
         within = [] if leaf else self.within(told, parts)
         numbers = self.numbers(name, told, parts) if leaf else ()
         return (
@@ -207,10 +211,132 @@ class Slow:
         ranks = [(name, self.rank(name, told)) for name in self.names if self.answers(name, told)]
         return [(name, as_pair(rank)) for name, rank in sorted(ranks, key=lambda row: (-row[1], row[0]))]
 
+    def bound(self, names, told, parts=(0, 1, 2)):
+        """[21]: the bound of some texts."""
+        if told[0] in LEAVES:
+            n = self.numbers(names[0], told, parts)[0]
+            standing = [self.numbers(name, told, parts) for name in names if self.answers(name, told, parts)]
+            if not standing:
+                return (None, (n, 0, 0), ())
+            t, length = max(numbers[2] for numbers in standing), min(numbers[3] for numbers in standing)
+            rank = self.leaf_rank(n, t, length, len(self.names), sum(self.lengths.values()))
+            return (as_pair(rank), (n, t, length), ())
+        bounds = tuple(self.bound(names, one, further) for one, further in self.within(told, parts))
+        each = [None if bound[0] is None else fractions.Fraction(*bound[0]) for bound in bounds]
+        some = [rank for rank in each if rank is not None]
+        if told[0] == "never" or told[0] != "any" and each[0] is None or told[0] == "any" and not some:
+            rank = None
+        elif told[0] == "all" and len(some) < len(each):
+            rank = None
+        else:
+            rank = {"in": each[0], "by": each[0], "but": each[0]}.get(told[0], sum(some))
+            rank *= told[1] if told[0] == "by" else 1
+        return (as_pair(rank), (), bounds)
+
+    def best(self, told, many, wide):
+        """[22]: the best so many, the blocks gone through and those skipped, by its first sentences."""
+        blocks = [self.names[begin:begin + wide] for begin in range(0, len(self.names), wide)]
+        bounds = [(number, self.bound(block, told)[0]) for number, block in enumerate(blocks)]
+        best = self.listed(told)[:many]
+        gone = [row for row in bounds if row[1] is not None]
+        if len(best) == many:
+            last = fractions.Fraction(*best[-1][1])
+            gone = [row for row in gone if fractions.Fraction(*row[1]) >= last]
+        return (best, gone, [row for row in bounds if row not in gone])
+
+    def gone_from_the_greatest(self, told, many, wide):
+        """[22]: the numbers of the blocks gone through, by its sentence in brackets."""
+        blocks = [self.names[begin:begin + wide] for begin in range(0, len(self.names), wide)]
+        bounds = [(self.bound(block, told)[0], number) for number, block in enumerate(blocks)]
+        bounds = [(fractions.Fraction(*rank), number) for rank, number in bounds if rank is not None]
+        gone, ranks = [], []
+        for bound, number in sorted(bounds, reverse=True):
+            if len(ranks) >= many and bound < sorted(ranks, reverse=True)[many - 1]:
+                break
+            gone.append(number)
+            ranks += [self.rank(name, told) for name in blocks[number] if self.answers(name, told)]
+        return sorted(gone)
+
 
 def as_pair(rank):
     """Python's own fraction as a tuple (top, bottom), None as it is."""
     return None if rank is None else (rank.numerator, rank.denominator)
+
+
+def told_inner(told):
+    """The askings that one is made of, as it is told."""
+    if told[0] in ("all", "any"):
+        return told[1]
+    return () if told[0] in LEAVES else tuple(part for part in told[1:] if isinstance(part, tuple))
+
+
+def slow_cost(told):
+    """[23]: the cost of an asking that is told so."""
+    costs = [slow_cost(inner) for inner in told_inner(told)]
+    return (max(1, sum(cost[0] for cost in costs)), 1 + sum(cost[1] for cost in costs))
+
+
+def slow_puts_of_several(told):
+    """[23]: pairs (rule, put) at an All or Any."""
+    sort, some = told
+    never = ("never",)
+    if len(some) == 1:
+        yield "one", some[0]
+    for at, inner in enumerate(some):
+        if inner[0] == sort:
+            yield "flat", (sort, some[:at] + inner[1] + some[at + 1:])
+        if inner == never:
+            if sort == "all":
+                yield "never", never
+            elif len(some) > 1:
+                yield "never", (sort, some[:at] + some[at + 1:])
+    for (first, one), (second, other) in itertools.combinations(enumerate(some), 2):
+        (_, times, rest), (_, more, same) = [asking if asking[0] == "by" else ("by", 1, asking) for asking in (one, other)]
+        if rest == same and times + more < 1000:
+            left = list(some)
+            left[first] = ("by", times + more, rest)
+            del left[second]
+            yield "like", (sort, tuple(left))
+    for rule, around in [("pull", "by"), ("part", "in")]:
+        if len(some) > 1 and {inner[0] for inner in some} == {around} and len({inner[1] for inner in some}) == 1:
+            yield rule, (around, some[0][1], (sort, tuple(inner[2] for inner in some)))
+    for one, (at, other) in itertools.product(some, enumerate(some)):
+        if other[0] in ("all", "any") and other[0] != sort and one in other[1]:
+            yield "behind", (sort, some[:at] + some[at + 1:])
+
+
+def slow_puts(told):
+    """[23]: pairs (rule, put) at one node, those of "behind" as if it were due there."""
+    never, sort = ("never",), told[0]
+    if sort in ("all", "any"):
+        yield from slow_puts_of_several(told)
+    if sort == "also":
+        (_, times, rest), (_, more, same) = [inner if inner[0] == "by" else ("by", 1, inner) for inner in told[1:]]
+        if rest == same and times + more < 1000:
+            yield "like", ("by", times + more, rest)
+        yield "behind", told[1]
+    if sort == "by":
+        if told[1] == 1:
+            yield "by", told[2]
+        if told[2][0] == "by" and told[1] * told[2][1] < 1000:
+            yield "by", ("by", told[1] * told[2][1], told[2][2])
+        yield "behind", told[2]
+    if sort == "in" and told[2][0] == "in":
+        yield "in", told[2] if told[1] == told[2][1] else never
+    if sort in ("in", "by") and told[2] == never or sort in ("but", "also") and told[1] == never:
+        yield "never", never
+    if sort in ("but", "also") and told[2] == never:
+        yield "never", told[1]
+    if sort == "but" and told[1] == told[2]:
+        yield "away", never
+
+
+def slow_steps(told, path=(), behind=False):
+    """[23]: the set of all steps (rule, path, put as it is told) of an asking that is told so."""
+    steps = {(rule, path, put) for rule, put in slow_puts(told) if behind or rule != "behind"}
+    for at, inner in enumerate(told_inner(told)):
+        steps |= slow_steps(inner, path + (at,), behind or told[0] == "but" and at == 1)
+    return steps
 
 
 def chance_texts(chance, many):
@@ -225,6 +351,39 @@ def chance_texts(chance, many):
             for _ in range(3)
         )
     return texts
+
+
+def cheapable_asking(chance, nodes, deep):
+    """An asking of few words, few numbers and many alike parts, so that rules often apply, or nearly do."""
+    sort = chance.choice(["leaf", "in", "by", "but", "also", "all", "any", "all", "any", "but"])
+    if nodes < 2 or deep == 0 or sort == "leaf":
+        return chance.choice([Word("a"), Word("a"), Word("b"), Begin("a"), Row(["a", "b"]), Near(2, "a", "b"), Never()])
+    if sort in ("in", "by"):
+        inner = cheapable_asking(chance, nodes - 1, deep - 1)
+        return In(chance.randrange(2), inner) if sort == "in" else By(chance.choice([0, 1, 2, 31, 33, 499, 500, 998, 999]), inner)
+    many = 2 if sort in ("but", "also") else chance.randrange(1, 5)
+    some = [cheapable_asking(chance, (nodes - 1) // many, deep - 1) for _ in range(many)]
+    if chance.randrange(2):
+        some = [chance.choice(some) for _ in some]
+    if chance.randrange(4) == 0:
+        times, part = chance.choice([0, 1, 2, 499, 500]), chance.randrange(2)
+        some = [By(times, one) for one in some] if chance.randrange(2) else [In(part, one) for one in some]
+    if sort in ("but", "also"):
+        return But(*some) if sort == "but" else Also(*some)
+    if chance.randrange(2):
+        some.insert(chance.randrange(len(some) + 1), (Any if sort == "all" else All)([chance.choice(some), Word("b")]))
+    return All(some) if sort == "all" else Any(some)
+
+
+def cheapable_askings(many):
+    """Askings to which rules often apply, of at most 40 nodes, the same ones each time."""
+    chance = random.Random(23)
+    made = []
+    while len(made) < many:
+        asking = cheapable_asking(chance, chance.randrange(1, 40), 6)
+        if slow_cost(asking.told())[1] <= 40:
+            made.append(asking)
+    return made
 
 
 def make_of(rules, texts):
@@ -243,4 +402,10 @@ def make_of(rules, texts):
 NONE_OF_THE_NAMES = NO_NAMES + [
     "zz", "nobody", ("sea",), ["sea"], {"sea": 1}, {"sea": ("a", "b", "c")}, b"sea", "SEA", "sea ", " sea", [], {}, 7,
     ("sea", 0), [("sea",)], (None,), ((),), -(10 ** 30),
+]
+
+# What is no whole number from 1 to 40.
+NO_MANY = [
+    0, 41, 42, 100, -1, -2, -40, 10 ** 30, -(10 ** 30), 2 ** 64, True, False, None, "", "1", "5", "a", b"1", [], [1], (), (1,),
+    {}, {1: 1}, {1}, frozenset([1]), object(), len, int, [[]], [5, 5],
 ]

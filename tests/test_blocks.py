@@ -7,14 +7,10 @@ from shownranks.books import Book
 from shownranks.errors import NoMany
 from shownranks.houses import House
 from shownranks.rulebooks import Rulebook
-from helpers import Checks, all_told, make_of
+from helpers import NO_MANY, Checks, all_told, make_of
 
 PLAIN = Rulebook([], [])
 FORTY = [one + other for one in "abcd" for other in "abcdefghij"]
-NO_MANY = [
-    0, 41, 42, 100, -1, -2, -40, 10 ** 30, -(10 ** 30), 2 ** 64, True, False, None, "", "1", "5", "a", b"1", [], [1], (), (1,),
-    {}, {1: 1}, {1}, frozenset([1]), object(), len, int, [[]], [5, 5],
-]
 
 
 def book_of(names):
