@@ -50,13 +50,19 @@ def near_pairs(leaf, places):
     return pairs
 
 
+def firsts_and_lasts(leaf, places):
+    """The pairs (first, last) of places between which a leaf stands in a part, by its words' places there."""
+    if isinstance(leaf, Row):
+        starts = row_starts([places.get(word, []) for word in leaf.row_words])
+        return [(start, start + len(leaf.row_words) - 1) for start in starts]
+    if isinstance(leaf, Near):
+        return near_pairs(leaf, places)
+    return [(place, place) for some in places.values() for place in some]
+
+
 def count_by_places(leaf, places):
     """A leaf's count in a part, by the dict from its words to their places there."""
-    if isinstance(leaf, Row):
-        return len(row_starts([places.get(word, []) for word in leaf.row_words]))
-    if isinstance(leaf, Near):
-        return len(near_pairs(leaf, places))
-    return sum([len(some) for some in places.values()])
+    return len(firsts_and_lasts(leaf, places))
 
 
 def leaf_counts(book, leaf):

@@ -2,7 +2,8 @@
 
 from shownranks.askings import All, Also, Any, Begin, But, By, In, Near, Never, Row, Word
 from shownranks.errors import NoAsking
-from shownranks.signs import is_figure, is_plain_sign
+from shownranks.numerals import is_numeral
+from shownranks.signs import is_plain_sign
 
 PART_NAMES = ("head", "body", "marks")
 
@@ -59,10 +60,8 @@ def check_brackets(text):
 def read_number(scan):
     """A number by figures, without noughts ahead but for 0 itself."""
     figures = scan.next_plain()
-    if not 1 <= len(figures) <= MOST_FIGURES or not all([is_figure(sign) for sign in figures]):
+    if not is_numeral(figures) or len(figures) > MOST_FIGURES:
         raise NoAsking(f"a number must end at sign {scan.at}")
-    if figures[0] == "0" and len(figures) > 1:
-        raise NoAsking("no number has a nought ahead")
     return int(figures)
 
 

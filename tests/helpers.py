@@ -3,6 +3,7 @@
 import fractions
 import itertools
 import random
+import re
 import unittest
 
 from shownranks.askings import All, Also, Any, Begin, But, By, In, Near, Never, Row, Word
@@ -261,6 +262,69 @@ class Slow:
 def as_pair(rank):
     """Python's own fraction as a tuple (top, bottom), None as it is."""
     return None if rank is None else (rank.numerator, rank.denominator)
+
+
+def slow_spans(words, told):
+    """[25]: the pairs (begin, end) of a leaf, told so, in a part of these words."""
+    at = {place: (word, begin, end) for word, place, begin, end in words}
+    if told[0] == "word":
+        return [(begin, end) for word, begin, end in at.values() if word == told[1]]
+    if told[0] == "begin":
+        return [(begin, end) for word, begin, end in at.values() if word[:len(told[1])] == told[1]]
+    if told[0] == "row":
+        last = len(told[1]) - 1
+        return [
+            (at[place][1], at[place + last][2]) for place in at
+            if [at.get(place + step, [None])[0] for step in range(last + 1)] == list(told[1])
+        ]
+    return [
+        (at[here][1], at[there][2]) for here in at for there in at
+        if 0 < there - here <= told[1] and sorted([at[here][0], at[there][0]]) == sorted(told[2:])
+    ]
+
+
+def slow_written(leaf):
+    """[13]: a leaf, told so, as it is written."""
+    return {
+        "word": lambda: leaf[1], "begin": lambda: leaf[1] + "*", "row": lambda: "row(" + " ".join(leaf[1]) + ")",
+        "near": lambda: "near(" + " ".join(map(str, leaf[1:])) + ")",
+    }[leaf[0]]()
+
+
+def slow_finds(book, name, told, parts=(0, 1, 2)):
+    """[25]: the set of finds of a text for an asking that is told so."""
+    if told[0] in LEAVES:
+        return {
+            (part, begin, end, slow_written(told)) for part in parts
+            for begin, end in slow_spans(book.words_in(name, part), told)
+        }
+    inner = told_inner(told)[:1] if told[0] == "but" else told_inner(told)
+    parts = [part for part in parts if told[0] != "in" or part == told[1]]
+    return set().union(*[slow_finds(book, name, one, parts) for one in inner])
+
+
+def slow_piece(book, name, told, most):
+    """[26]: the best of all windows, each looked at by itself."""
+    finds = slow_finds(book, name, told)
+    windows = []
+    for part, text in enumerate(book.parts(name)):
+        runs = [(found.start(), found.end()) for found in re.finditer("[A-Za-z0-9]+", text)]
+        for (begin, _), (_, end) in itertools.combinations_with_replacement(runs, 2):
+            held = sorted(find for find in finds if find[0] == part and begin <= find[1] and find[2] <= end)
+            if held and end - begin <= most:
+                order = (-len({find[3] for find in held}), -len(held), end - begin, part, begin)
+                windows.append((order, (part, begin, end, text[begin:end], held)))
+    return min(windows)[1] if windows else None
+
+
+def slow_groups(book, told):
+    """[27]"""
+    slow = Slow(book)
+    many = {}
+    for name in book.names():
+        for word in {word for word, _, _, _ in book.words_in(name, 2)} if slow.answers(name, told) else ():
+            many[word] = many.get(word, 0) + 1
+    return sorted(many.items(), key=lambda group: (-group[1], group[0]))
 
 
 def told_inner(told):
